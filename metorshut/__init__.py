@@ -1,0 +1,1 @@
+"""Metorshut: test suites that are kept through every row of edits."""
