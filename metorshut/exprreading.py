@@ -3,7 +3,7 @@
 from metorshut.levels import COMPARISON, LEVELS
 from metorshut.tokens import is_number
 
-IN_FRONT = {"~": "not", "-": "neg"}
+OPS_IN_FRONT = {"~": "not", "-": "neg"}
 OPERANDS = {"div": 2, "rem": 2, "pick": 3}
 
 
@@ -38,8 +38,8 @@ def _join(operands, waiting, level):
 
 def _read_signed(row):
     signs = []
-    while row.seen() in IN_FRONT:
-        signs.append(IN_FRONT[row.take_any()])
+    while row.seen() in OPS_IN_FRONT:
+        signs.append(OPS_IN_FRONT[row.take_any()])
     expr = _read_bottom(row)
     for sign in reversed(signs):
         expr = (sign, expr)

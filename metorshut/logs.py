@@ -37,6 +37,10 @@ class Log:
         """Note that the run comes to a statement with this name."""
         self.met[name] = True
 
+    def end(self, outcome):
+        """Note how the run ends."""
+        self.ending = outcome
+
     def has_step(self):
         """Whether there is a step left; the run is cut if there is none."""
         if self.steps < self.bounds[0]:

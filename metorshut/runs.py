@@ -100,9 +100,10 @@ class Trial:
         self.kept = None
 
     def __enter__(self):
-        self.kept = self.held.stand
-        self.held.stand = self.kept.copied()
-        return self.held
+        held = self.held
+        self.kept = held.stand
+        held.stand = self.kept.copied()
+        return held
 
     def __exit__(self, kind, value, trace):
         held = self.held

@@ -89,7 +89,7 @@ def _return(plans, stand, frame, row):
     else:
         found = worth(row[1], frame.cells, stand.log.objects)
     if len(stand.frames) == 1:
-        stand.log.ending = ("returns", found[1])
+        stand.log.end(("returns", found[1]))
         return
     stand.frames.pop()
     stand.news.append(("back", frame.name))
@@ -122,7 +122,7 @@ def _leave(plans, stand, name):
             if caught == name:
                 caller.row = at
                 return
-    stand.log.ending = ("raises", name)
+    stand.log.end(("raises", name))
 
 
 ACTS = {

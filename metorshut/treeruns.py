@@ -159,7 +159,7 @@ class Walk:
         """End a call with a worth."""
         target = self.tasks.pop().target
         if not self.tasks:
-            self.log.ending = ("returns", found[1])
+            self.log.end(("returns", found[1]))
         elif target is not None:
             self.tasks[-1].cells[target] = found
 
@@ -169,4 +169,4 @@ class Walk:
             if self.tasks[-1].put_catch(name):
                 return
             self.tasks.pop()
-        self.log.ending = ("raises", name)
+        self.log.end(("raises", name))

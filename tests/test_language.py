@@ -192,6 +192,11 @@ class Language(unittest.TestCase):
                 if isinstance(node, (ast.arg, ast.FunctionDef)):
                     self.assertIsNone(getattr(node, "annotation", None) or getattr(node, "returns", None), name)
 
+    def test_attributes_are_assigned_through_names(self):
+        for where, node in self.each(ast.Attribute):
+            if isinstance(node.ctx, ast.Store):
+                self.assertIsInstance(node.value, ast.Name, where)
+
     def test_stars_stand_over_names(self):
         for where, node in self.each(ast.Starred):
             self.assertIsInstance(node.value, ast.Name, where)
