@@ -22,10 +22,10 @@ def check(program):
     """None if the program has no fault; otherwise raises the first one."""
     if len(program) > DECLARATIONS:
         raise TooLarge("program")
-    table = {}
+    names = {}
     for one in program:
-        _check_new(one[1], table)
-        table[one[1]] = one
+        _add_name(names, one[1])
+    table = {one[1]: one for one in program}
     fields = fields_of(program)
     for one in program:
         if one[0] == "record":
@@ -36,9 +36,10 @@ def check(program):
             _check_function(table, fields, one)
 
 
-def _check_new(name, names):
+def _add_name(names, name):
     if name in names:
         raise Twice(name)
+    names[name] = True
 
 
 def _check_kind(table, kind):
@@ -65,8 +66,7 @@ def _check_record(table, record):
         raise TooLarge(name)
     names = {}
     for field, kind in fields:
-        _check_new(field, names)
-        names[field] = True
+        _add_name(names, field)
         _check_kind(table, kind)
 
 
@@ -93,8 +93,7 @@ def _check_external(external):
 def _check_outer_params(params):
     names = {}
     for param, kind in params:
-        _check_new(param, names)
-        names[param] = True
+        _add_name(names, param)
         if param == "result":
             raise BadUse(param)
         if isinstance(kind, str):
@@ -108,8 +107,7 @@ def _check_function(table, fields, function):
         raise TooLarge(name)
     names = {}
     for param, param_kind in params:
-        _check_new(param, names)
-        names[param] = True
+        _add_name(names, param)
         _check_kind(table, param_kind)
         if entry == 1 and isinstance(param_kind, str):
             raise BadUse(param)
@@ -117,8 +115,7 @@ def _check_function(table, fields, function):
     if entry == 1:
         _check_entry(function)
     for place in places:
-        _check_new(place[0], names)
-        names[place[0]] = True
+        _add_name(names, place[0])
         _check_kind(table, place[1])
         if len(place) == 3:
             _check_width(place[2])

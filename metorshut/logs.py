@@ -108,7 +108,7 @@ class Log:
         self.ending = None
 
     def comes_again(self, frame, number):
-        """Come to a `while` of a call; the run is endless if all is as at an earlier time."""
+        """Come to a `while` of a call, told apart by a number; the run is endless if all is as at an earlier time."""
         fields = tuple([tuple(one.values()) for one in self.objects])
         now = (len(self.answered), fields, tuple(frame.cells.values()))
         before = frame.visits.get(number, ())

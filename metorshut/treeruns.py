@@ -82,7 +82,7 @@ class Walk:
     def do(self, task, spot):
         """Do a statement."""
         word = spot.statement[0]
-        if word == "while" and self.log.comes_again(task, spot.number + len(spot.looks) - 1):
+        if word == "while" and self.log.comes_again(task, spot.number):
             return
         bit = self.pass_looks(task, spot)
         if bit is None:

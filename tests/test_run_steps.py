@@ -409,6 +409,34 @@ class Twins(unittest.TestCase):
         twin = run.twin()
         self.assertEqual(list(run.events()), list(twin.events()))
 
+    def test_between_two_events(self):
+        text = """function g ( ) : 1 { assert 0#1 ; } function h ( ) : 1 { call g ( ) ; }
+            entry function main ( ) : 1 { try { call h ( ) ; } catch claim { } while 1#1 { assert 1#1 ; } }"""
+        machine = Machine(read_program(text))
+        whole = list(machine.start("main", ()).events())
+        self.assertEqual(whole[2:5], [("g", 0, 0), ("back", "g"), ("back", "h")])
+        self.assertEqual(whole[-1], ("endless",))
+        for many in range(1, len(whole) + 1):
+            run = machine.start("main", ())
+            for at, _ in enumerate(run.events()):
+                if at + 1 == many:
+                    break
+            twin = run.twin()
+            self.assertEqual(list(run.events()), whole[many:])
+            self.assertEqual(list(twin.events()), whole[many:])
+            self.assertEqual(twin.report, run.report)
+
+    def test_steps_that_are_left(self):
+        text = "external ask ( ) : 1 needs 1#1 gives 1#1 ; entry function main ( ) : 1 { %s }" % ("call ask ( ) ; " * 3)
+        run = Machine(read_program(text)).start("main", (), (5, 1, 0, 8))
+        run.go()
+        self.assertEqual(run.ahead(0, 0), ("cut", "steps"))
+        run.answer(0)
+        run.go()
+        twin = run.twin()
+        twin.answer(0)
+        self.assertEqual(twin.go(), ("cut", "steps"))
+
     def test_in_a_trial(self):
         run = started(0)
         with run.trial():
@@ -446,7 +474,7 @@ class Random(unittest.TestCase):
 
     def follow(self, program, machine, unit, args, dice):
         """Try all answers wherever a run waits, then go on with one of them."""
-        bounds = (32, dice.randrange(1, 9), 4, 12)
+        bounds = (dice.choice((4, 8, 16, 32)), dice.randrange(1, 9), 4, 12)
         run = machine.start(unit, args, bounds)
         events, answers = list(run.events()), ()
         while True:

@@ -34,7 +34,7 @@ class Tokens(unittest.TestCase):
             self.assertEqual(tokens_of("a" + sign + "1"), ("a", sign, "1"))
 
     def test_runs(self):
-        self.assertEqual(tokens_of("aB9z 9aZ letx"), ("aB9z", "9aZ", "letx"))
+        self.assertEqual(tokens_of("aB9z 9aZ Az0 letx"), ("aB9z", "9aZ", "Az0", "letx"))
         self.assertEqual(tokens_of("abcdefghijk"), ("abcdefghijk",))
         self.assertEqual(tokens_of("x.y1#22"), ("x", ".", "y1", "#", "22"))
 
