@@ -8,49 +8,89 @@ variable, and for an array a pair (width, words). Objects are dicts of worths.
 from metorshut.words import result
 
 NOTHING = (0, None)
+RELATIONS = ("==", "!=", "<", "<=")
 
 
-def worth(expr, cells, objects):
-    """The worth of an expr all of whose looks go way 1."""
-    op = expr[0]
-    if op == "name":
-        return cells[expr[1]]
-    if op == "word":
-        return expr[2], expr[1]
-    if op == "null":
-        return NOTHING
-    if op == "item":
-        width, words = cells[expr[1]]
-        return width, words[worth(expr[2], cells, objects)[1]]
-    if op == "field":
-        return objects[cells[expr[1]][1]][expr[2]]
-    if op == "wide":
-        return expr[2], result(op, expr[2], worth(expr[1], cells, objects)[1])
-    return _joined_worth(op, [worth(part, cells, objects) for part in expr[1:]])
+class Reckoner:
+    """Reckons with something in the place of words: a class below tells what a word and an operation are."""
+
+    def blank(self, kind):
+        """The worth with which a variable or a field of this kind begins."""
+        return (kind, self.word(kind, 0)) if isinstance(kind, int) else NOTHING
+
+    def worth(self, expr, cells, objects):
+        """The worth of an expr all of whose looks go way 1."""
+        op = expr[0]
+        if op == "name":
+            return cells[expr[1]]
+        if op == "word":
+            return expr[2], self.word(expr[2], expr[1])
+        if op == "null":
+            return NOTHING
+        if op == "item":
+            return self.item(cells[expr[1]], self.worth(expr[2], cells, objects))
+        if op == "field":
+            return objects[cells[expr[1]][1]][expr[2]]
+        if op == "wide":
+            return expr[2], self.make(op, expr[2], [self.worth(expr[1], cells, objects)])
+        return self.joined(op, [self.worth(part, cells, objects) for part in expr[1:]])
+
+    def joined(self, op, parts):
+        """The worth of an operation on worths."""
+        if op in RELATIONS:
+            if parts[0][0] == 0:
+                return 1, self.word(1, 1 if (parts[0] == parts[1]) == (op == "==") else 0)
+            return 1, self.make(op, 1, parts)
+        # The last operand of a pick has the width of its result; that of a shift has not.
+        width = parts[1][0] if op == "pick" else parts[0][0]
+        return width, self.make(op, width, parts)
+
+    def condition(self, condition, cells, objects):
+        """What the condition of a look comes to, as of width 1."""
+        word = condition[0]
+        if word == "there":
+            return self.word(1, 0 if cells[condition[1]] == NOTHING else 1)
+        found = self.worth(condition[1], cells, objects)
+        if word == "is":
+            return found[1]
+        width = found[0]
+        if word == "some":
+            return self.make("not", 1, [(1, self.make("==", 1, [found, (width, self.word(width, 0))]))])
+        length = condition[2]
+        if length >= 1 << width:
+            return self.word(1, 1)
+        return self.make("<", 1, [found, (width, self.word(width, length))])
+
+    def store(self, cells, place, found, objects):
+        """Store a worth in a place all of whose looks go way 1."""
+        name = place[1]
+        if place[0] == "name":
+            cells[name] = found
+        elif place[0] == "field":
+            objects[cells[name][1]][place[2]] = found
+        else:
+            cells[name] = self.stored(cells[name], self.worth(place[2], cells, objects), found)
 
 
-def _joined_worth(op, parts):
-    words = [part[1] for part in parts]
-    if op in ("==", "!=", "<", "<="):
-        return 1, result(op, parts[0][0], *words)
-    # The last operand of a pick has the width of its result; that of a shift has not.
-    width = parts[1][0] if op == "pick" else parts[0][0]
-    return width, result(op, width, *words)
+class Words(Reckoner):
+    """Reckons with words, for runs."""
 
+    def word(self, width, value):
+        """What stands for a word."""
+        return value
 
-def holds(condition, cells, objects):
-    """Whether the condition of a look holds."""
-    word = condition[0]
-    if word == "there":
-        return cells[condition[1]][1] is not None
-    value = worth(condition[1], cells, objects)[1]
-    if word == "below":
-        return value < condition[2]
-    if word == "some":
-        return value != 0
-    return value == 1
+    def make(self, op, width, parts):
+        """What an operation on worths gives; the width is that of the result."""
+        words = [part[1] for part in parts]
+        return result(op, width if op in ("wide", "pick") else parts[0][0], *words)
 
+    def item(self, array, index):
+        """The worth of an item of an array."""
+        width, words = array
+        return width, words[index[1]]
 
-def blank(kind):
-    """The worth with which a variable or a field of this kind begins."""
-    return (kind, 0) if isinstance(kind, int) else NOTHING
+    def stored(self, array, index, found):
+        """The array behind the storing of an item."""
+        width, words = array
+        at = index[1]
+        return width, words[:at] + (found[1],) + words[at + 1:]

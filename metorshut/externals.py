@@ -1,6 +1,6 @@
 """What externals are asked and may answer (points 8, 10 and 14)."""
 
-from metorshut.evaluation import worth
+from metorshut.evaluation import Words
 from metorshut.words import all_words
 
 
@@ -24,19 +24,21 @@ def let_answers(external, args, asked):
 
 def needs_hold(external, args):
     """Whether its needs are 1 for these words."""
-    return worth(external[5], _cells(external, args), ())[1] == 1
+    return Words().worth(external[5], outer_cells(external, args), ())[1] == 1
 
 
 def _given(external, args):
-    cells = _cells(external, args)
+    cells = outer_cells(external, args)
+    words = Words()
     width = external[3]
     answers = []
     for answer in range(1 << width):
         cells["result"] = (width, answer)
-        if worth(external[6], cells, ())[1] == 1:
+        if words.worth(external[6], cells, ())[1] == 1:
             answers.append(answer)
     return answers
 
 
-def _cells(external, args):
+def outer_cells(external, args):
+    """The cells of the needs of an external that is asked with these words, or with what stands for them."""
     return {name: (kind, word) for (name, kind), word in zip(external[2], args)}

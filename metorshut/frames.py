@@ -1,7 +1,6 @@
 """The calls of runs (points 11 and 16)."""
 
 from metorshut.errors import BadInput, TooWide
-from metorshut.evaluation import blank, worth
 from metorshut.words import is_word
 
 
@@ -13,44 +12,43 @@ class Frame:
         self.cells = cells
         self.visits = {}
 
-    def store(self, place, found, objects):
-        """Store a worth in a place."""
-        name = place[1]
-        if place[0] == "name":
-            self.cells[name] = found
-        elif place[0] == "field":
-            objects[self.cells[name][1]][place[2]] = found
-        else:
-            width, words = self.cells[name]
-            at = worth(place[2], self.cells, objects)[1]
-            self.cells[name] = (width, words[:at] + (found[1],) + words[at + 1:])
+    def note_visit(self, number, picture):
+        """Note how all stood when the call came to the `while` with this number."""
+        self.visits[number] = self.visits.get(number, ()) + (picture,)
 
 
-def first_cells(function, worths):
+def first_cells(function, worths, reckoner):
     """The cells with which a call begins, from the worths of its args."""
     cells = {}
     for (name, _), given in zip(function[2], worths):
         cells[name] = given
     for place in function[5]:
-        if len(place) == 3:
-            cells[place[0]] = (place[1], (0,) * place[2])
-        else:
-            cells[place[0]] = blank(place[1])
+        blank = reckoner.blank(place[1])
+        cells[place[0]] = blank if len(place) == 2 else (place[1], (blank[1],) * place[2])
     return cells
 
 
-def bits_of(function):
-    """The widths of the parameters of a unit in all."""
-    return sum([kind for _, kind in function[2]])
+def widths_of(function):
+    """The widths of the parameters of a unit."""
+    return tuple([kind for _, kind in function[2]])
 
 
-def entry_cells(function, args, bounds):
-    """The cells with which a run of a unit begins; raises TooWide and BadInput."""
-    if bits_of(function) > bounds[3]:
+def check_width(function, bounds):
+    """None if a unit is not too wide for the bounds; raises TooWide otherwise."""
+    if sum(widths_of(function)) > bounds[3]:
         raise TooWide(function[1])
-    if len(args) != len(function[2]):
+
+
+def check_args(function, args):
+    """None if these are words for the parameters of a unit; raises BadInput otherwise."""
+    widths = widths_of(function)
+    if len(args) != len(widths):
         raise BadInput("args")
-    for word, (_, width) in zip(args, function[2]):
+    for word, width in zip(args, widths):
         if not is_word(word, width):
             raise BadInput("args")
-    return first_cells(function, [(width, word) for word, (_, width) in zip(args, function[2])])
+
+
+def unit_cells(function, words, reckoner):
+    """The cells with which a run of a unit begins."""
+    return first_cells(function, list(zip(widths_of(function), words)), reckoner)

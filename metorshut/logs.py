@@ -1,7 +1,6 @@
 """What one run has done, counted as its bounds count it (points 14, 15 and 17)."""
 
 from metorshut.errors import BadInput
-from metorshut.evaluation import blank
 from metorshut.externals import let_answers, needs_hold
 from metorshut.words import is_word
 
@@ -15,6 +14,8 @@ class Log:
         self.bits = bits
         self.bounds = bounds
         self.steps = 0
+        # The most calls that had begun and not ended at one time.
+        self.deepest = 1
         self.ways = []
         # Triples (external, args, answer).
         self.answered = []
@@ -26,6 +27,7 @@ class Log:
         """Another log that tells the same."""
         other = Log(self.unit, self.bits, self.bounds)
         other.steps = self.steps
+        other.deepest = self.deepest
         other.ways = list(self.ways)
         other.answered = list(self.answered)
         other.objects = [dict(one) for one in self.objects]
@@ -64,9 +66,10 @@ class Log:
             self.ending = ("cut", "depth")
             return False
         self.steps += 1
+        self.deepest = max(self.deepest, begun + 1)
         return True
 
-    def make(self, record):
+    def make(self, record, reckoner):
         """Make an object of a record; its worth as a reference, None if the run is cut."""
         if not self.has_step():
             return None
@@ -74,7 +77,7 @@ class Log:
             self.ending = ("cut", "objects")
             return None
         self.steps += 1
-        self.objects.append({name: blank(kind) for name, kind in record[2]})
+        self.objects.append({name: reckoner.blank(kind) for name, kind in record[2]})
         return 0, len(self.objects) - 1
 
     def ask(self, external, args):
@@ -85,37 +88,53 @@ class Log:
         bit = 1 if needs_hold(external, args) else 0
         if not self.decide(external[1], 0, bit):
             return None
-        if bit == 1 and self.has_step():
+        if bit == 1:
+            self.come_to_wait(external, args)
+        return bit
+
+    def come_to_wait(self, external, args):
+        """Wait for an answer, or be cut, behind way 1 of the look of an external."""
+        if self.has_step():
             if self.bits + external[3] > self.bounds[3]:
                 self.ending = ("cut", "bits")
             else:
                 self.ending = ("asks", external[1], args)
-        return bit
 
     def waits(self):
         """Whether the run waits for an answer."""
         return self.ending is not None and self.ending[0] == "asks"
 
+    def lets(self, external):
+        """The answers that are let where the run waits."""
+        _, name, args = self.ending
+        return let_answers(external, args, tuple([one[1:] for one in self.answered if one[0] == name]))
+
     def answer(self, external, word):
         """Take the answer for which the run waits; raises BadInput if it is not let."""
-        _, name, args = self.ending
-        asked = tuple([(words, answer) for other, words, answer in self.answered if other == name])
-        if not is_word(word, external[3]) or word not in let_answers(external, args, asked):
+        if not is_word(word, external[3]) or word not in self.lets(external):
             raise BadInput("answers")
+        self.take(external, word)
+
+    def take(self, external, word):
+        """Take a word that is let as the answer."""
+        _, name, args = self.ending
         self.steps += 1
         self.bits += external[3]
         self.answered.append((name, args, word))
         self.ending = None
 
+    def picture(self, frame):
+        """How all stands for a call: the number of answers, the fields of all objects, and its variables."""
+        fields = tuple([tuple(one.values()) for one in self.objects])
+        return len(self.answered), fields, tuple(frame.cells.values())
+
     def comes_again(self, frame, number):
         """Come to a `while` of a call, told apart by a number; the run is endless if all is as at an earlier time."""
-        fields = tuple([tuple(one.values()) for one in self.objects])
-        now = (len(self.answered), fields, tuple(frame.cells.values()))
-        before = frame.visits.get(number, ())
-        if now in before:
+        now = self.picture(frame)
+        if now in frame.visits.get(number, ()):
             self.ending = ("endless",)
             return True
-        frame.visits[number] = (*before, now)
+        frame.note_visit(number, now)
         return False
 
     def told(self, ending):

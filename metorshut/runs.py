@@ -2,7 +2,8 @@
 
 from metorshut.bounds import BOUNDS, check_bounds
 from metorshut.errors import BadInput, NotAsked
-from metorshut.frames import bits_of, entry_cells
+from metorshut.evaluation import Words
+from metorshut.frames import check_args, check_width, unit_cells, widths_of
 from metorshut.logs import Log
 from metorshut.stands import Plans, RowFrame, Stand
 from metorshut.stepping import step, take_answer
@@ -12,7 +13,7 @@ class Machine:
     """Runs a program by its graphs."""
 
     def __init__(self, program):
-        self.plans = Plans(program)
+        self.plans = Plans(program, Words())
 
     def run(self, unit, args, answers, bounds=BOUNDS):
         """The report of a run."""
@@ -29,8 +30,10 @@ class Machine:
         """A run that has not begun to go."""
         check_bounds(bounds)
         function = self.plans.table[unit]
-        frame = RowFrame(unit, entry_cells(function, args, bounds), 0)
-        return Run(self.plans, Stand(Log(unit, bits_of(function), bounds), [frame]))
+        check_width(function, bounds)
+        check_args(function, args)
+        frame = RowFrame(unit, unit_cells(function, args, self.plans.reckoner), 0)
+        return Run(self.plans, Stand(Log(unit, sum(widths_of(function)), bounds), [frame]))
 
 
 class Run:
@@ -63,6 +66,11 @@ class Run:
         if self.stand.news or not self.stand.log.waits():
             raise NotAsked()
         take_answer(self.plans, self.stand, word)
+
+    def lets(self):
+        """The answers that are let if the run waits, ascending; otherwise none."""
+        log = self.stand.log
+        return log.lets(self.plans.table[log.ending[1]]) if log.waits() else ()
 
     @property
     def outcome(self):

@@ -5,10 +5,11 @@ from metorshut.graphs import graph_of
 
 
 class Plans:
-    """The declarations of a program, and the rows of the functions that were called so far."""
+    """The declarations of a program, the rows of the functions that were called so far, and what reckons in runs."""
 
-    def __init__(self, program):
+    def __init__(self, program, reckoner):
         self.program = program
+        self.reckoner = reckoner
         self.table = {one[1]: one for one in program}
         self.graphs = {}
 

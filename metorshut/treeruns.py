@@ -2,8 +2,8 @@
 
 from metorshut.bounds import BOUNDS, check_bounds
 from metorshut.errors import BadInput
-from metorshut.evaluation import blank, holds, worth
-from metorshut.frames import Frame, bits_of, entry_cells, first_cells
+from metorshut.evaluation import Words
+from metorshut.frames import Frame, check_args, check_width, first_cells, unit_cells, widths_of
 from metorshut.logs import Log
 from metorshut.programs import declared
 from metorshut.spots import spots_of
@@ -13,9 +13,10 @@ def run_tree(program, unit, args, answers, bounds=BOUNDS):
     """The report of a run."""
     check_bounds(bounds)
     function = declared(program, unit)
-    cells = entry_cells(function, args, bounds)
-    walk = Walk(program, Log(unit, bits_of(function), bounds), answers)
-    walk.begin(function, cells, None)
+    check_width(function, bounds)
+    check_args(function, args)
+    walk = Walk(program, Log(unit, sum(widths_of(function)), bounds), answers)
+    walk.begin(function, unit_cells(function, args, walk.words), None)
     walk.go()
     if walk.used < len(answers):
         raise BadInput("answers")
@@ -59,6 +60,7 @@ class Walk:
         self.log = log
         self.answers = answers
         self.used = 0
+        self.words = Words()
         self.tasks = []
 
     def begin(self, function, cells, target):
@@ -77,7 +79,7 @@ class Walk:
                 if piece == "do":
                     self.do(task, spot)
             else:
-                self.give_back(blank(declared(self.program, task.name)[3]))
+                self.give_back(self.words.blank(declared(self.program, task.name)[3]))
 
     def do(self, task, spot):
         """Do a statement."""
@@ -91,13 +93,14 @@ class Walk:
             self.enter(task, spot, bit)
         elif word == "let":
             _, place, expr = spot.statement
-            task.store(place, worth(expr, task.cells, self.log.objects), self.log.objects)
+            found = self.words.worth(expr, task.cells, self.log.objects)
+            self.words.store(task.cells, place, found, self.log.objects)
         elif word == "make":
             self.make(task, spot.statement)
         elif word == "call":
             self.call(task, spot.statement)
         elif word == "return":
-            self.give_back(worth(spot.statement[1], task.cells, self.log.objects))
+            self.give_back(self.words.worth(spot.statement[1], task.cells, self.log.objects))
         elif word == "raise":
             self.leave(spot.statement[1])
 
@@ -105,7 +108,7 @@ class Walk:
         """The way of the last look, 1 if there is none; None if the run goes on elsewhere."""
         bit = 1
         for at, (condition, raised) in enumerate(spot.looks):
-            bit = 1 if holds(condition, task.cells, self.log.objects) else 0
+            bit = self.words.condition(condition, task.cells, self.log.objects)
             if not self.log.decide(task.name, spot.number + at, bit):
                 return None
             if bit == 0 and raised is not None:
@@ -129,7 +132,7 @@ class Walk:
         """Make an object."""
         _, name, record = statement
         self.log.meet(record)
-        found = self.log.make(declared(self.program, record))
+        found = self.log.make(declared(self.program, record), self.words)
         if found is not None:
             task.cells[name] = found
 
@@ -138,11 +141,11 @@ class Walk:
         _, target, name, args = statement
         self.log.meet(name)
         called = declared(self.program, name)
-        worths = [worth(arg, task.cells, self.log.objects) for arg in args]
+        worths = [self.words.worth(arg, task.cells, self.log.objects) for arg in args]
         if called[0] == "external":
             self.ask(task, target, called, tuple([word for _, word in worths]))
         elif self.log.begin_call(len(self.tasks)):
-            self.begin(called, first_cells(called, worths), target)
+            self.begin(called, first_cells(called, worths, self.words), target)
 
     def ask(self, task, target, external, words):
         """Ask an external, and take the next answer if there is one."""
