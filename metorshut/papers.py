@@ -59,8 +59,8 @@ def _page_clashes(rows, clashes):
             worths[bit] |= worth << at
     read = read_columns(rows, cone_of(rows, list(wanted)), inputs, (1 << len(clashes)) - 1)
     for term, column in wanted.items():
-        (known,), (worth,) = read[term]
-        if column & ~(known & ~worth):
+        known, worths = read[term]
+        if column & ~(known[0] & ~worths[0]):
             return False
     return True
 

@@ -112,8 +112,8 @@ class Splits:
         read = read_columns(self.rows, self.cone, inputs, full)
         found = []
         for at, term in self.core:
-            (known,), (worth,) = read[term]
-            found.append((at, known & ~worth))
+            known, worths = read[term]
+            found.append((at, known[0] & ~worths[0]))
         return found
 
     def paper_at(self, level, index):

@@ -4,8 +4,7 @@ Inputs are numbered as Python orders them: the words of the first input are
 the highest bits of the number. A mask is a tuple with a column for each page.
 """
 
-from metorshut.columns import bit_column, fitted, full_column, page_count, reckoned, word_columns
-from metorshut.columns import PAGE_BITS
+from metorshut.columns import PAGE_BITS, bit_column, fitted, full_column, page_count, reckoned, word_columns
 from metorshut.nodeparts import cone_of, operands_of
 
 
