@@ -1,5 +1,7 @@
 """What several tests use."""
 
+from metorshut.check import check
+from metorshut.closures import is_open
 from metorshut.errors import MakerError
 from metorshut.reading import read_program
 
@@ -29,3 +31,16 @@ def name(n):
 
 def word(value, width):
     return ("word", value, width)
+
+
+def program_of(text):
+    """The program of a text, which the checker lets."""
+    program = read_program(text)
+    check(program)
+    return program
+
+
+def units_of(program, bounds):
+    """The names of the units that are not too wide."""
+    return [one[1] for one in program if one[0] == "function" and is_open(program, one[1])
+            and sum(kind for _, kind in one[2]) <= bounds[3]]

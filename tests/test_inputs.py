@@ -2,14 +2,11 @@
 
 import unittest
 
-from helping import error_of
+from helping import error_of, program_of, units_of
 from making import made_program
 from metorshut.bounds import BOUNDS
-from metorshut.check import check
-from metorshut.closures import is_open
 from metorshut.inputs import inputs_of, pairs_of, shown_of
 from metorshut.programs import declared
-from metorshut.reading import read_program
 from metorshut.runs import Machine
 from metorshut.treeruns import run_tree
 from metorshut.words import all_words
@@ -18,12 +15,6 @@ from rich import rich_program
 
 ASK = "external ask ( a : 2 ) : 2 needs a != 0#2 gives result != a ; "
 SAME = "external same ( a : 1 ) : 1 steady needs 1#1 gives 1#1 ; "
-
-
-def program_of(text):
-    program = read_program(text)
-    check(program)
-    return program
 
 
 def searched(program, unit, bounds):
@@ -41,11 +32,6 @@ def searched(program, unit, bounds):
             else:
                 found.append((args, answers))
     return sorted(found)
-
-
-def units_of(program, bounds):
-    return [one[1] for one in program if one[0] == "function" and is_open(program, one[1])
-            and sum(kind for _, kind in one[2]) <= bounds[3]]
 
 
 class Inputs(unittest.TestCase):
