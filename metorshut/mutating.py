@@ -52,9 +52,8 @@ def _changed_statements(statement):
     if word in TESTING:
         found.append(_with(statement, 1, ("not", statement[1])))
     found.extend([_with(statement, 1, expr) for expr in _changed_exprs(statement[1])])
-    if word != "assert" and word != "return":
-        for at in range(2, len(statement)):
-            found.extend([_with(statement, at, block) for block in _changed_bodies(statement[at])])
+    for at in range(2, len(statement)):
+        found.extend([_with(statement, at, block) for block in _changed_bodies(statement[at])])
     return found
 
 

@@ -219,6 +219,31 @@ class Books(unittest.TestCase):
         self.assertEqual([node for node in nodes_of(book[4]) if node[0] == "loop"], [])
         self.assertIn(("end", ("cut", "objects")), nodes_of(book[4]))
 
+    def test_objects_that_no_variable_refers_to_part_the_times_of_a_loop(self):
+        help_text = BOX + "function help ( ) : 1 { var b : box ; make b = box ; } "
+        book = self.main("", "while 1#1 { call help ( ) ; }", (32, 4, 3, 3), help_text)
+        self.assertEqual([node for node in nodes_of(book[4]) if node[0] == "loop"], [])
+        self.assertIn(("end", ("cut", "objects")), nodes_of(book[4]))
+
+    def test_fields_part_the_times_of_a_loop(self):
+        body = "var b : box ; make b = box ; while b . v != x { let b . v = b . v + 1#2 ; }"
+        book = self.main("x : 2", body, (32, 4, 3, 3), BOX)
+        self.assertEqual([node for node in nodes_of(book[4]) if node[0] == "loop"], [])
+        book = self.main("x : 2 , y : 2", body.replace("1#2", "y"), (32, 4, 3, 4), BOX)
+        loops = [node for node in nodes_of(book[4]) if node[0] == "loop"]
+        x, y = ("input", 2, 0), ("input", 2, 1)
+        self.assertEqual(self.term(book, loops[0][2]), ("==", 1, y, ("word", 2, 0)))
+        self.assertEqual(self.term(book, book[4][3][2]), ("not", 1, ("==", 1, x, ("word", 2, 0))))
+
+    def test_references_part_the_times_of_a_loop(self):
+        # At the second time b refers to the other object; at the third one to the first object again.
+        body = ("var b : box ; var c : box ; var d : box ; make b = box ; make c = box ; "
+                "while 1#1 { let d = b ; let b = c ; let c = d ; }")
+        book = self.main("", body, (32, 4, 3, 3), BOX)
+        nodes = nodes_of(book[4])
+        self.assertEqual([node[0] for node in nodes if node[0] in ("look", "loop")], ["look", "look", "look", "loop"])
+        self.assertEqual([node for node in nodes if node[0] == "end"], [("end", ("endless",))])
+
     def test_each_bound(self):
         ends = {
             (5, 4, 4, 8): "steps", (32, 3, 4, 8): "depth", (32, 4, 2, 8): "objects", (32, 4, 4, 4): "bits",

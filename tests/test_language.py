@@ -369,10 +369,27 @@ class Interface(unittest.TestCase):
         "closures": ["looks_of", "closure_of", "is_open", "is_pure"],
         "treeruns": ["run_tree"],
         "runs": ["Machine", "Run"],
+        "inputs": ["inputs_of", "shown_of", "pairs_of"],
+        "sheets": ["Sheet", "judge_sheet"],
+        "values": ["value_of", "values_of"],
+        "cubes": ["read_term", "fits"],
+        "forms": ["form_of"],
+        "papers": ["judge_paper"],
+        "solving": ["solve"],
+        "sums": ["solve_sums", "judge_multipliers", "many_solutions"],
+        "books": ["book_of"],
+        "following": ["judge_book"],
+        "leaves": ["leaves_of", "replayed"],
+        "summaries": ["summary_of", "run_with"],
+        "formulas": ["formula_of"],
+        "loops": ["counting_loops", "turns", "left_with"],
+        "goals": ["goals_of", "meets"],
+        "mutating": ["mutants_of", "with_mutant"],
     }
     MEMBERS = {
         "Machine": ["run", "start"],
         "Run": ["events", "go", "answer", "outcome", "report", "trial", "ahead", "twin"],
+        "Sheet": ["nodes", "place", "word", "unknown", "make", "put_in"],
     }
 
     def test_each_name_is_defined_in_its_file(self):
@@ -382,11 +399,13 @@ class Interface(unittest.TestCase):
             self.assertLessEqual(set(names), made, module)
 
     def test_each_method_is_defined_in_its_class(self):
-        body = trees()["runs.py"].body
-        for node in body:
+        seen = set()
+        for node in [*trees()["runs.py"].body, *trees()["sheets.py"].body]:
             if isinstance(node, ast.ClassDef) and node.name in self.MEMBERS:
                 made = {part.name for part in node.body if isinstance(part, ast.FunctionDef)}
                 self.assertLessEqual(set(self.MEMBERS[node.name]), made)
+                seen.add(node.name)
+        self.assertEqual(seen, set(self.MEMBERS))
 
 
 if __name__ == "__main__":

@@ -96,6 +96,22 @@ class Leaves(unittest.TestCase):
         leaves = leaves_of(program, book_of(program, "main"))
         self.assertEqual([leaf[0] for leaf in leaves], [((), (0, 1)), ((), (0, 0))])
 
+    def test_steady_answers(self):
+        outer = " ".join(f"external {name} ( a : 1 ) : 2 steady needs 1#1 gives 1#1 ;" for name in "ef")
+        for name, last in (("e", (0, 1)), ("f", (0, 0))):
+            program = program_of(outer + "entry function main ( p : 1 , q : 1 ) : 2 { var x : 2 ; var y : 2 ; "
+                                 f"call x = e ( p ) ; call y = {name} ( q ) ; "
+                                 "if x == y { return 1#2 ; } return 2#2 ; }")
+            book = book_of(program, "main", (24, 4, 4, 6))
+            self.assertEqual([leaf[0] for leaf in leaves_of(program, book)], [((0, 0), (0, 0)), (last, (0, 1))])
+
+    def test_an_ask_between_two_of_another_external(self):
+        program = program_of("external e ( ) : 1 steady needs 1#1 gives 1#1 ; external f ( ) : 1 steady needs 1#1 "
+                             "gives 1#1 ; entry function main ( ) : 1 { var x : 1 ; var y : 1 ; call x = e ( ) ; "
+                             "call y = f ( ) ; call y = e ( ) ; if x != y { raise ouch ; } if y { return 1#1 ; } }")
+        first = [leaf[0] for leaf in leaves_of(program, book_of(program, "main"))]
+        self.assertEqual(first, [((), (1, 0, 1)), ((), (0, 0, 0))])
+
     def test_one_leaf(self):
         program = program_of("entry function main ( ) : 2 { }")
         self.assertEqual(leaves_of(program, book_of(program, "main")), ((((), ()), (), (), ("returns", 0)),))

@@ -96,6 +96,18 @@ class Papers(unittest.TestCase):
         self.assertIs(judge_paper(question, ("sums", ((0, 1), (2, -1), (3, 0)))), False)
         self.assertIs(judge_paper(question, ("sums", ((0, 1), (2, -1), (4, 0)))), False)
 
+    def test_constants_on_both_sides(self):
+        # x + 1 == x + y, x + 1 == x + 1, x + 1 == x + 3, and not (x + 1) == 1 - x.
+        nodes = (("input", 2, 0), ("word", 2, 1), ("+", 2, 0, 1), ("==", 1, 2, 2), ("word", 2, 3), ("+", 2, 0, 4),
+                 ("==", 1, 2, 5), ("==", 1, 5, 2), ("not", 2, 2), ("-", 2, 1, 0), ("==", 1, 8, 9))
+        question = ((2,), nodes, (3, 6, 7, 10))
+        for at, many, told in ((0, 1, False), (0, 3, False), (1, 1, True), (1, 2, False), (2, 1, True), (2, -1, True),
+                               (3, 1, True), (3, 3, True), (3, 4, False)):
+            self.assertIs(judge_paper(question, ("sums", ((at, many),))), told, (at, many))
+        self.assertIs(judge_paper(question, ("sums", ((1, 1), (2, 1)))), False)
+        self.assertIs(judge_paper(question, ("sums", ((1, 1), (2, -1)))), False)
+        self.assertIs(judge_paper(question, ("sums", ((1, 2), (2, 1)))), True)
+
     def test_even_factors(self):
         # 2 * x == 1.
         nodes = (("input", 2, 0), ("word", 2, 2), ("*", 2, 0, 1), ("word", 2, 1), ("==", 1, 2, 3))
