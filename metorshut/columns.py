@@ -32,6 +32,15 @@ def bit_column(bits, page, at):
     return column
 
 
+def column_from(bits, page, first):
+    """The column of the numbers from a first one on."""
+    full = full_column(bits)
+    before = first - (page << PAGE_BITS)
+    if before <= 0:
+        return full
+    return full & ~((1 << before) - 1) if before < full.bit_length() else 0
+
+
 def word_columns(width, value, full):
     """The columns of a word that is the same in all cases."""
     return [full if value >> at & 1 else 0 for at in range(width)]

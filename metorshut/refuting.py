@@ -1,6 +1,6 @@
 """Papers for questions without a model (points 26 and 27)."""
 
-from metorshut.columns import PAGE_BITS, bit_column, full_column, page_count
+from metorshut.columns import PAGE_BITS, bit_column, column_from, full_column, page_count
 from metorshut.nodeparts import cone_of
 from metorshut.readings import read_columns
 from metorshut.tables import both, is_empty
@@ -14,14 +14,14 @@ def paper_against(rows, conditions, masks):
     core = core_of(masks)
     cone = cone_of(rows, [conditions[at] for at in core])
     inputs = [(rows[at][2], rows[at][1]) for at in cone if rows[at][0] == "input"]
-    best = None
+    found = []
     for order in _orders(inputs):
-        splits = Splits(rows, cone, [(at, conditions[at]) for at in core], order)
-        if best is None or splits.size < best.size:
-            best = splits
-        if best.size <= SHORT:
-            break
-    return best.paper_at(0, 0)
+        size, paper = Splits(rows, cone, [(at, conditions[at]) for at in core], order).paper_at(0, 1)
+        if size <= SHORT:
+            return paper
+        found.append((size, len(found), paper))
+    _, _, best = min(found)
+    return best
 
 
 def core_of(masks):
@@ -64,51 +64,30 @@ def _orders(inputs):
 class Splits:
     """What clashes when bits are split in an order.
 
-    Cube number k of level d knows the first d bits of the order: they are the
-    lowest d bits of k.
+    Cubes are numbered: 1 knows nothing, and the cube that knows the first d
+    bits of the order is 2 ^ d and these bits, the first one as bit 0.
     """
 
     def __init__(self, rows, cone, core, order):
         self.rows = rows
         self.cone = cone
+        # Pairs of a condition's number and its term.
         self.core = core
         self.order = order
-        # For each level and page the pairs of a condition's number and the column of the cubes in which it clashes.
-        self.levels = []
-        self.size = 0
-        self.split_on()
+        self.pages = [self.clashes_on(page) for page in range(page_count(len(order) + 1))]
 
-    def split_on(self):
-        """Add levels until all cubes clash."""
-        left = [1]
-        while any(left):
-            bits = len(self.levels)
-            level = [self.clashes_on(bits, page) for page in range(page_count(bits))]
-            self.levels.append(level)
-            still = []
-            for column, clashes in zip(left, level):
-                for _, clash in clashes:
-                    column &= ~clash
-                still.append(column)
-            self.size += _many_bits(left) - _many_bits(still)
-            if bits < PAGE_BITS:
-                left = [column | column << (1 << bits) for column in still]
-            else:
-                left = still + still
-
-    def clashes_on(self, bits, page):
-        """The clashes of a level on a page."""
+    def clashes_on(self, page):
+        """For each condition of the core a pair of its number and the column of the cubes in which it clashes."""
+        bits = len(self.order) + 1
         full = full_column(bits)
         inputs = {}
-        for number, bit in self.order:
+        for at, (number, bit) in enumerate(self.order):
             known, worths = inputs.setdefault(number, ([], []))
-            known.extend([0] * (bit + 1 - len(known)))
-            worths.extend([0] * (bit + 1 - len(worths)))
-        for at in range(bits):
-            number, bit = self.order[at]
-            known, worths = inputs[number]
-            known[bit] = full
-            worths[bit] = bit_column(bits, page, at)
+            gap = [0] * (bit + 1 - len(known))
+            known.extend(gap)
+            worths.extend(gap)
+            known[bit] = column_from(bits, page, 2 << at)
+            worths[bit] = known[bit] & bit_column(bits, page, at)
         read = read_columns(self.rows, self.cone, inputs, full)
         found = []
         for at, term in self.core:
@@ -116,17 +95,13 @@ class Splits:
             found.append((at, known[0] & ~worths[0]))
         return found
 
-    def paper_at(self, level, index):
-        """The paper for a cube."""
-        place = index & ((1 << PAGE_BITS) - 1)
-        for at, clash in self.levels[level][index >> PAGE_BITS]:
+    def paper_at(self, level, cube):
+        """A pair: the number of clashes in the paper for a cube of which so many bits are known, and the paper."""
+        place = cube & ((1 << PAGE_BITS) - 1)
+        for at, clash in self.pages[cube >> PAGE_BITS]:
             if clash >> place & 1:
-                return "clash", at
+                return 1, ("clash", at)
         number, bit = self.order[level]
-        zero = self.paper_at(level + 1, index)
-        one = self.paper_at(level + 1, index | 1 << level)
-        return "split", number, bit, zero, one
-
-
-def _many_bits(columns):
-    return sum([f"{column:b}".count("1") for column in columns])
+        many, zero = self.paper_at(level + 1, cube + (1 << level))
+        more, one = self.paper_at(level + 1, cube + (2 << level))
+        return many + more, ("split", number, bit, zero, one)

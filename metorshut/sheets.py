@@ -146,16 +146,28 @@ def _by_added_word(sheet, width, term, value, top):
     base, rest = sheet.parts_of_sum(term)
     if rest is None:
         return None
-    return sheet.make("+", width, base, sheet.word(width, rest + value & top))
+    # A loop, as sums of sums of sums can stand in a sheet in which they were placed.
+    while rest is not None and value != 0:
+        value = rest + value & top
+        made = sheet.word(width, value)
+        term = base
+        base, rest = sheet.parts_of_sum(term)
+    return sheet.make("+", width, term, made)
 
 
 def _by_equal_word(sheet, term, value, top):
     if top == 1:
         return term if value == 1 else sheet.make("not", 1, term)
+    width = sheet.rows[term][1]
     base, rest = sheet.parts_of_sum(term)
     if rest is None:
         return None
-    return sheet.make("==", 1, base, sheet.word(sheet.rows[term][1], value - rest & top))
+    while rest is not None:
+        value = value - rest & top
+        made = sheet.word(width, value)
+        term = base
+        base, rest = sheet.parts_of_sum(term)
+    return sheet.make("==", 1, term, made)
 
 
 def _by_twins(sheet, op, width, term):

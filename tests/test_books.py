@@ -160,6 +160,14 @@ class Books(unittest.TestCase):
         self.assertEqual(sum(node[0] == "shut" for node in nodes), 5)
         self.assertEqual(self.term(book, [node for node in nodes if node[0] == "end"][0][1][1]), ("input", 2, 0))
 
+    def test_comparisons_of_references_are_words_of_width_1(self):
+        body = ("var b : box ; var c : box ; make b = box ; if ~ ( b != c ) { return 3#2 ; } "
+                "return wide ( ( b == b ) + wide ( x , 1 ) , 2 ) + wide ( - ( c == null ) , 2 ) ;")
+        book = self.main("x : 2", body, ahead=BOX)
+        self.assertEqual(book[4][3][0], "shut")
+        told = ("+", 1, ("wide", 1, ("input", 2, 0)), ("word", 1, 1))
+        self.assertEqual(self.term(book, book[4][4][1][1]), ("+", 2, ("wide", 2, told), ("word", 2, 1)))
+
     def test_items_with_a_narrow_index(self):
         # An index of width 1 comes only to the first two words.
         book = self.main("i : 1 , x : 2", "var a : 2 [ 4 ] ; let a [ i ] = x ; return a [ 3#2 ] + a [ i ] ;")

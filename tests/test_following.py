@@ -197,6 +197,17 @@ class Conditions(unittest.TestCase):
             book = ("book", (1,), ("main",), nodes, ("look", ("main", 0), 2, *sides))
             self.assertIs(judge_book(program, "main", BOUNDS, book), False)
 
+    def test_where_no_input_goes_not_both_sides_are_shut(self):
+        program = program_of("entry function main ( x : 1 ) : 1 { if x & ~ x { if x { } } }")
+        nodes = (("input", 1, 0), ("not", 1, 0), ("&", 1, 0, 1), ("word", 1, 0))
+        end = ("end", ("returns", 3))
+        shut = ("shut", ("split", 0, 0, ("clash", 0), ("clash", 0)))
+        for yes, no, told in ((shut, shut, False), (shut, end, True), (end, shut, True), (end, end, True)):
+            inner = ("look", ("main", 1), 0, yes, no)
+            book = ("book", (1,), ("main",), nodes, ("look", ("main", 0), 2, inner, end))
+            self.assertIs(judge_book(program, "main", BOUNDS, book), told)
+            self.assertIs(right_book(program, "main", BOUNDS, book), told)
+
     def test_terms_are_the_same_through_and_through(self):
         program = program_of("entry function main ( x : 2 ) : 2 { return x + 1#2 + 1#2 ; }")
         good = (("word", 2, 2), ("input", 2, 0), ("+", 2, 1, 0))

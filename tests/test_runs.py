@@ -40,6 +40,15 @@ BOX = "record box { v : 8 ; n : box ; } "
 LOOP = "var s : 8 ; while s < %d#8 { let s = s + 1#8 ; }"
 
 
+class References(RunTest):
+    def test_comparisons_are_words_of_width_1(self):
+        head = BOX + "entry function main ( ) : 8 { var b : box ; var c : box ; make b = box ; "
+        for expr, told in (("~ ( b == b )", 0), ("~ ( b == c )", 1), ("- ( c == null )", 1), ("( b != c ) + ( c != b )", 0),
+                           ("( b == b ) << 1#1", 0), ("( b != c ) * 1#1", 1)):
+            self.assertEqual(self.outcome(head + f"return wide ( {expr} , 8 ) ; }}"), ("returns", told), expr)
+            self.assertEqual(self.outcome(head + f"if {expr} {{ return 1#8 ; }} }}"), ("returns", told), expr)
+
+
 class Outcomes(RunTest):
     def test_returns(self):
         self.assertEqual(self.main(""), ("returns", 0))

@@ -197,6 +197,24 @@ class Rules(RuleTest):
         self.is_word(1, "==", mixed, self.word(5), width=1)
         self.is_word(0, "==", mixed, self.word(2), width=1)
 
+    def test_long_rows_of_sums_that_were_placed(self):
+        rows = [self.x]
+        for _ in range(3000):
+            rows.append(self.sheet.place(("+", 4, rows[-1], self.word(2))))
+        self.assertEqual(self.node("+", 4, rows[-1], self.word(5)), ("+", 4, self.x, self.word((6000 + 5) % 16)))
+        self.assertEqual(self.node("==", 1, rows[-1], self.word(5)), ("==", 1, self.x, self.word((5 - 6000) % 16)))
+        # It stops where the rest comes to 0.
+        self.assertEqual(self.sheet.make("+", 4, rows[-1], self.word(6)), rows[-6])
+
+    def test_sums_of_words_that_were_placed(self):
+        inner = self.sheet.place(("+", 4, self.word(5), self.word(2)))
+        outer = self.sheet.place(("+", 4, inner, self.word(3)))
+        self.is_word(13, "+", inner, self.word(6))
+        self.is_word(1, "+", outer, self.word(7))
+        self.is_word(5, "+", inner, self.word(14))
+        self.is_word(1, "==", outer, self.word(10), width=1)
+        self.is_word(0, "==", outer, self.word(11), width=1)
+
     def test_what_is_made_on_the_way_stays(self):
         sheet = Sheet()
         x = sheet.unknown(4, 0)
