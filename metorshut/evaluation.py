@@ -5,14 +5,13 @@ of its object or None in the place of the word. Cells tell the worth of each
 variable, and for an array a pair (width, words). Objects are dicts of worths.
 """
 
-from metorshut.words import result
+from metorshut.words import RELATIONS, result
 
 NOTHING = (0, None)
-RELATIONS = ("==", "!=", "<", "<=")
 
 
-class Reckoner:
-    """Reckons with something in the place of words: a class below tells what a word and an operation are."""
+class Words:
+    """Reckons with words, for runs. What reckons with something in their place has its own last four methods."""
 
     def blank(self, kind):
         """The worth with which a variable or a field of this kind begins."""
@@ -70,10 +69,6 @@ class Reckoner:
             objects[cells[name][1]][place[2]] = found
         else:
             cells[name] = self.stored(cells[name], self.worth(place[2], cells, objects), found)
-
-
-class Words(Reckoner):
-    """Reckons with words, for runs."""
 
     def word(self, width, value):
         """What stands for a word."""

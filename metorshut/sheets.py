@@ -1,10 +1,9 @@
 """Sheets of terms, and the rules by which terms are made (points 2, 3, 23, 24 and 25)."""
 
 from metorshut.nodeparts import operands_of, reckoning_width
-from metorshut.words import is_word, result
+from metorshut.words import RELATIONS, is_word, result
 
 EXCHANGED = ("+", "*", "&", "|", "^", "==")
-RELATIONS = ("==", "!=", "<", "<=")
 LENGTHS = {"word": 3, "input": 3, "not": 3, "neg": 3, "wide": 3, "pick": 5}
 PAIR_LENGTH = 4
 

@@ -1,11 +1,11 @@
 """Runs whose words are terms (points 24 and 30)."""
 
-from metorshut.evaluation import Reckoner
+from metorshut.evaluation import Words
 from metorshut.externals import outer_cells
 
 
-class Terms(Reckoner):
-    """Reckons with the terms of a sheet."""
+class Terms(Words):
+    """Reckons with the terms of a sheet in the place of words."""
 
     def __init__(self, sheet):
         self.sheet = sheet

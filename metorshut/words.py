@@ -1,5 +1,7 @@
 """The operations on words (point 3)."""
 
+RELATIONS = ("==", "!=", "<", "<=")
+
 
 def is_word(value, width):
     """Whether a value is a word of this width; True and False are none."""
@@ -25,7 +27,7 @@ def result(op, width, *words):
     if len(words) == 1:
         return _of_one(op, words[0]) & ((1 << width) - 1)
     left, right = words
-    if op in ("==", "!=", "<", "<="):
+    if op in RELATIONS:
         return 1 if _related(op, left, right) else 0
     return _of_two(op, width, left, right) & ((1 << width) - 1)
 
