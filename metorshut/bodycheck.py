@@ -8,7 +8,7 @@ class Body:
     """What a statement is checked against: all declarations, the variables, and the kind of the result."""
 
     def __init__(self, table, scope, kind):
-        self.table = table
+        self.declarations = table
         self.scope = scope
         self.kind = kind
 
@@ -34,9 +34,9 @@ def _check_make(body, statement):
     kind = body.kind_of_expr(("name", name))
     if not isinstance(kind, str):
         raise BadUse(name)
-    if record not in body.table:
+    if record not in body.declarations:
         raise Unknown(record)
-    if body.table[record][0] != "record":
+    if body.declarations[record][0] != "record":
         raise BadUse(record)
     if kind != record:
         raise BadWidth("make")
@@ -45,9 +45,9 @@ def _check_make(body, statement):
 def _check_call(body, statement):
     _, target, name, args = statement
     wanted = None if target is None else body.kind_of_expr(("name", target))
-    if name not in body.table:
+    if name not in body.declarations:
         raise Unknown(name)
-    called = body.table[name]
+    called = body.declarations[name]
     if called[0] == "record":
         raise BadUse(name)
     kinds = [body.kind_of_expr(arg) for arg in args]

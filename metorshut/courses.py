@@ -10,29 +10,29 @@ from metorshut.termreckoning import Terms
 
 
 class Course:
-    """The runs of a unit within bounds; their words are terms of one sheet.
+    """The runs of a unit within bounds; their words are terms of one sheet, a new one if none is given.
 
     A run stands as runs by the graphs do. It goes on to the nodes of the tree
     of its book, and there goes the way that it is told to.
     """
 
-    def __init__(self, program, unit, bounds):
+    def __init__(self, program, unit, bounds, sheet=None):
         self.unit = unit
         self.bounds = bounds
-        self.sheet = Sheet()
+        self.sheet = Sheet() if sheet is None else sheet
         self.terms = Terms(self.sheet)
         self.plans = Plans(program, self.terms)
-        self.widths = widths_of(self.plans.table[unit])
+        self.widths = widths_of(self.plans.declarations[unit])
 
     def beginning(self):
         """A run that has not begun to go."""
         args = [self.sheet.unknown(width, number) for number, width in enumerate(self.widths)]
-        cells = unit_cells(self.plans.table[self.unit], args, self.terms)
+        cells = unit_cells(self.plans.declarations[self.unit], args, self.terms)
         return Stand(Log(self.unit, sum(self.widths), self.bounds), [RowFrame(self.unit, cells, 0)])
 
     def widths_at(self, stand):
         """The widths of the inputs so far."""
-        return self.widths + tuple([self.plans.table[name][3] for name, _, _ in stand.log.answered])
+        return self.widths + tuple([self.plans.declarations[name][3] for name, _, _ in stand.log.answered])
 
     def advance(self, stand):
         """Go on to the next node; its parts but for the trees below it."""
@@ -63,7 +63,7 @@ class Course:
 
     def come_to_ask(self, stand, row):
         """Come to the look of an external; its node, None if the run is cut there."""
-        external = self.plans.table[row[2]]
+        external = self.plans.declarations[row[2]]
         stand.log.meet(external[1])
         if not stand.log.has_step():
             return None
@@ -77,19 +77,16 @@ class Course:
     def come_again(self, stand, frame, row):
         """Come to a `while`; its node, None if it has none."""
         now = stand.log.picture(frame)
+        worths = _worths_in(now)
         found = self.terms.word(1, 0)
         for then in frame.visits.get(row[1], ()):
             if then[0] == now[0] and len(then[1]) == len(now[1]):
-                found = self.sheet.make("|", 1, found, self.is_unchanged(then, now))
+                found = self.sheet.make("|", 1, found, self.terms.are_same(_worths_in(then), worths))
         if self.sheet.value_at(found) == 0:
             frame.note_visit(row[1], now)
             frame.row = row[2]
             return None
         return "loop", (frame.name, row[1]), found
-
-    def is_unchanged(self, then, now):
-        """The term that tells whether all variables and fields are as they were in an earlier picture."""
-        return self.terms.are_same(_worths_in(then), _worths_in(now))
 
     def go_way(self, stand, bit):
         """Go a way of the look or loop at which a run stands."""
@@ -101,7 +98,7 @@ class Course:
         elif row[0] == "ask":
             stand.log.decide(row[2], 0, bit)
             if bit == 1:
-                stand.log.come_to_wait(self.plans.table[row[2]], self.asked_with(stand))
+                stand.log.come_to_wait(self.plans.declarations[row[2]], self.asked_with(stand))
             else:
                 turn(self.plans, stand, row[5])
         elif bit == 1:
@@ -114,7 +111,7 @@ class Course:
         """Go on behind an ask with the next input; the conditions of the answer."""
         log = stand.log
         _, name, args = log.ending
-        external = self.plans.table[name]
+        external = self.plans.declarations[name]
         earlier = [one[1:] for one in log.answered if one[0] == name]
         answer = self.sheet.unknown(external[3], len(self.widths_at(stand)))
         log.take(external, answer)

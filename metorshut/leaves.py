@@ -65,7 +65,7 @@ class TreeWalk:
         self.widths = widths
         self.sheet = Sheet(rows)
         self.terms = Terms(self.sheet)
-        self.tables = Tables(self.sheet.rows, sum(widths) + _bits_asked(program, tree))
+        self.tables = Tables(self.sheet.rows, sum(widths) + bits_asked(program, tree))
         self.leaves = []
         # The outcomes of the leaves, with terms.
         self.ends = []
@@ -120,7 +120,7 @@ class TreeWalk:
         self.ends.append(outcome)
 
 
-def _bits_asked(program, tree):
+def bits_asked(program, tree):
     """The most bits of answers on a way in a tree."""
     most = 0
     waiting = [(tree, 0)]

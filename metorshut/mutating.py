@@ -1,6 +1,6 @@
 """The mutants of functions (point 41)."""
 
-from metorshut.programs import declared
+from metorshut.programs import declared, with_declaration
 
 LEFT_OUT = ("let", "make", "call", "assert", "raise")
 TESTING = ("if", "while", "assert")
@@ -18,8 +18,7 @@ def mutants_of(program, name):
 
 def with_mutant(program, name, number):
     """The program with a mutant in the place of its function."""
-    mutant = mutants_of(program, name)[number]
-    return tuple([mutant if one[1] == name else one for one in program])
+    return with_declaration(program, mutants_of(program, name)[number])
 
 
 def _with(whole, at, part):

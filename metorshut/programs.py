@@ -12,3 +12,8 @@ def declared(program, name):
         if one[1] == name:
             return one
     return None
+
+
+def with_declaration(program, declaration):
+    """The program with a declaration in the place of the one of its name."""
+    return tuple([declaration if one[1] == declaration[1] else one for one in program])

@@ -29,7 +29,7 @@ class Machine:
     def start(self, unit, args, bounds=BOUNDS):
         """A run that has not begun to go."""
         check_bounds(bounds)
-        function = self.plans.table[unit]
+        function = self.plans.declarations[unit]
         check_width(function, bounds)
         check_args(function, args)
         frame = RowFrame(unit, unit_cells(function, args, self.plans.reckoner), 0)
@@ -70,7 +70,7 @@ class Run:
     def lets(self):
         """The answers that are let if the run waits, ascending; otherwise none."""
         log = self.stand.log
-        return log.lets(self.plans.table[log.ending[1]]) if log.waits() else ()
+        return log.lets(self.plans.declarations[log.ending[1]]) if log.waits() else ()
 
     @property
     def outcome(self):

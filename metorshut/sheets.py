@@ -42,12 +42,14 @@ class Sheet:
 
     def put_in(self, nodes, terms):
         """Make each node of another sheet anew, with these terms in the place of its inputs."""
+        return self.made_anew(nodes, {node: terms[node[2]] for node in nodes if node[0] == "input"})
+
+    def made_anew(self, nodes, terms):
+        """The same with a dict of terms for input nodes; those that it has not stand for themselves."""
         made = []
         for node in nodes:
-            if node[0] == "word":
-                made.append(self.place(node))
-            elif node[0] == "input":
-                made.append(terms[node[2]])
+            if node[0] in ("word", "input"):
+                made.append(terms[node] if node in terms else self.place(node))
             else:
                 operands = [made[term] for term in operands_of(node)]
                 made.append(self.make(node[0], node[1], *operands))

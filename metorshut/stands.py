@@ -10,7 +10,7 @@ class Plans:
     def __init__(self, program, reckoner):
         self.program = program
         self.reckoner = reckoner
-        self.table = {one[1]: one for one in program}
+        self.declarations = {one[1]: one for one in program}
         self.graphs = {}
 
     def rows_of(self, name):

@@ -19,7 +19,7 @@ def step(plans, stand):
 
 def take_answer(plans, stand, word):
     """Go on behind an ask with an answer; raises BadInput if it is not let."""
-    external = plans.table[stand.log.ending[1]]
+    external = plans.declarations[stand.log.ending[1]]
     stand.log.answer(external, word)
     give_back(plans, stand, (external[3], word))
 
@@ -54,7 +54,7 @@ def _let(plans, stand, frame, row):
 def _make(plans, stand, frame, row):
     _, name, record, after = row
     stand.log.meet(record)
-    found = stand.log.make(plans.table[record], plans.reckoner)
+    found = stand.log.make(plans.declarations[record], plans.reckoner)
     if found is not None:
         stand.news.append(("make", record))
         frame.cells[name] = found
@@ -79,7 +79,7 @@ def _call(plans, stand, frame, row):
     stand.log.meet(name)
     if stand.log.begin_call(len(stand.frames)):
         stand.news.append(("call", name))
-        cells = first_cells(plans.table[name], args_at(plans, stand), plans.reckoner)
+        cells = first_cells(plans.declarations[name], args_at(plans, stand), plans.reckoner)
         stand.frames.append(RowFrame(name, cells, 0))
 
 
@@ -87,7 +87,7 @@ def _ask(plans, stand, frame, row):
     name = row[2]
     stand.log.meet(name)
     words = tuple([found[1] for found in args_at(plans, stand)])
-    bit = stand.log.ask(plans.table[name], words)
+    bit = stand.log.ask(plans.declarations[name], words)
     if bit is not None:
         stand.news.append((name, 0, bit))
     if bit == 0:
@@ -96,7 +96,7 @@ def _ask(plans, stand, frame, row):
 
 def _return(plans, stand, frame, row):
     if row[1] is None:
-        found = plans.reckoner.blank(plans.table[frame.name][3])
+        found = plans.reckoner.blank(plans.declarations[frame.name][3])
     else:
         found = plans.reckoner.worth(row[1], frame.cells, stand.log.objects)
     if len(stand.frames) == 1:

@@ -70,7 +70,7 @@ def _use(plans, stand, name, summary):
     log.ways.extend(ways)
     log.steps += 1 + steps
     if outcome[0] == "returns":
-        give_back(plans, stand, (plans.table[name][3], value_of(rows, words, outcome[1])))
+        give_back(plans, stand, (plans.declarations[name][3], value_of(rows, words, outcome[1])))
     elif outcome[0] == "raises":
         raise_at_call(plans, stand, outcome[1])
     else:

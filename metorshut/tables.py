@@ -4,7 +4,8 @@ Inputs are numbered as Python orders them: the words of the first input are
 the highest bits of the number. A mask is a tuple with a column for each page.
 """
 
-from metorshut.columns import PAGE_BITS, bit_column, fitted, full_column, page_count, reckoned, word_columns
+from metorshut.columns import PAGE_BITS, bit_column, column_from, fitted, full_column, page_count
+from metorshut.columns import reckoned, word_columns
 from metorshut.nodeparts import cone_of, operands_of
 
 
@@ -25,6 +26,11 @@ class Tables:
         """The mask of all inputs."""
         return (full_column(self.bits),) * page_count(self.bits)
 
+    def ahead_of(self, index):
+        """The mask of the inputs with lesser numbers."""
+        full = full_column(self.bits)
+        return tuple([full & ~column_from(self.bits, page, index) for page in range(page_count(self.bits))])
+
     def holding(self, widths, term):
         """The mask of the inputs for which a term of width 1 is 1."""
         pages = self.pages_of(widths)
@@ -40,6 +46,8 @@ class Tables:
 
     def columns(self, widths, page, known, term):
         """The columns of a term on a page."""
+        if term in known:
+            return known[term]
         full = full_column(self.bits)
         cone = cone_of(self.rows, (term,), known)
         for at in cone:
@@ -73,6 +81,16 @@ class Tables:
 def both(mask, other):
     """The mask of what is in both."""
     return tuple([one & two for one, two in zip(mask, other)])
+
+
+def either(mask, other):
+    """The mask of what is in one of both."""
+    return tuple([one | two for one, two in zip(mask, other)])
+
+
+def none_of(mask):
+    """The mask of nothing, with as many pages."""
+    return (0,) * len(mask)
 
 
 def without(mask, other):

@@ -46,11 +46,20 @@ class Terms(Words):
 
     def are_same(self, worths, others):
         """The term that tells whether these worths are the others, one by one."""
+        for one, other in zip(worths, others):
+            # Then the rules make the word 0 of all that is joined.
+            if one != other and self.is_known(one) and self.is_known(other):
+                return self.sheet.word(1, 0)
         found = self.sheet.word(1, 1)
         for one, other in zip(worths, others):
             _, same = self.joined("==", [one, other])
             found = self.sheet.make("&", 1, found, same)
         return found
+
+    def is_known(self, worth):
+        """Whether a worth is a word, or a reference."""
+        width, term = worth
+        return width == 0 or self.sheet.value_at(term) is not None
 
     def answer_conditions(self, external, args, answer, earlier):
         """What holds of an answer that is let, behind the pairs (args, answer) of the earlier asks of the external."""
