@@ -10,21 +10,26 @@ from metorshut.words import all_words
 def inputs_of(program, unit, bounds=BOUNDS):
     """Yields the full inputs, ascending."""
     check_bounds(bounds)
-    function = declared(program, unit)
-    check_width(function, bounds)
+    check_width(declared(program, unit), bounds)
+    for args, answers, _ in ended_runs(program, unit, bounds):
+        yield args, answers
+
+
+def ended_runs(program, unit, bounds):
+    """Yields (args, answers, outcome) for the full inputs, ascending."""
     machine = Machine(program)
-    for args in all_words(widths_of(function)):
+    for args in all_words(widths_of(declared(program, unit))):
         waiting = [(machine.start(unit, args, bounds), ())]
         while waiting:
             run, answers = waiting.pop()
-            run.go()
+            outcome = run.go()
             lets = run.lets()
             for word in reversed(lets):
                 other = run.twin()
                 other.answer(word)
                 waiting.append((other, (*answers, word)))
             if not lets:
-                yield args, answers
+                yield args, answers, outcome
 
 
 def shown_of(report):

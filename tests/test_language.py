@@ -2,6 +2,7 @@
 
 import ast
 import builtins
+import functools
 import re
 import sys
 import unittest
@@ -14,7 +15,7 @@ BUILTINS = set(
     "len range enumerate zip min max sum abs sorted reversed int str bool bytes list tuple dict set frozenset"
     " isinstance ord repr any all divmod pow getattr hasattr setattr iter next map"
     " Exception ValueError TypeError KeyError IndexError LookupError ZeroDivisionError ArithmeticError"
-    " OverflowError RuntimeError NotImplementedError StopIteration NotImplemented property".split()
+    " OverflowError RuntimeError NotImplementedError StopIteration NotImplemented property classmethod".split()
 )
 METHODS = set(
     "append clear copy count endswith extend find get index insert isalnum isalpha isdigit islower isspace"
@@ -41,14 +42,16 @@ VIEWS = {"items", "keys", "values"}
 TAKERS = {"list", "tuple", "dict", "sorted", "sum", "any", "all", "enumerate", "zip", "min", "max"}
 STATEMENTS = (
     ast.Assign, ast.AugAssign, ast.If, ast.While, ast.For, ast.Return, ast.Break, ast.Continue, ast.Pass, ast.Raise,
-    ast.Assert, ast.Delete, ast.Expr, ast.FunctionDef, ast.ClassDef, ast.ImportFrom, ast.Try,
+    ast.Assert, ast.Delete, ast.Expr, ast.FunctionDef, ast.ClassDef, ast.ImportFrom, ast.Try, ast.With,
 )
 
 
+@functools.cache
 def files():
     return sorted(PACKAGE.glob("*.py"))
 
 
+@functools.cache
 def trees():
     return {path.name: ast.parse(path.read_text()) for path in files()}
 
@@ -176,7 +179,7 @@ class Language(unittest.TestCase):
                 self.assertTrue(isinstance(node.value, ast.Constant) and isinstance(node.value.value, str), where)
         for where, node in self.each(ast.FunctionDef, ast.ClassDef):
             decorators = [ast.unparse(one) for one in node.decorator_list]
-            self.assertIn(decorators, ([], ["property"]), where)
+            self.assertIn(decorators, ([], ["property"], ["classmethod"]), where)
 
     def test_expressions(self):
         barred = (ast.SetComp, ast.Set, ast.Await, ast.NamedExpr, ast.Lambda, ast.GeneratorExp, ast.Pow, ast.Div)
@@ -284,31 +287,43 @@ class Language(unittest.TestCase):
             self.assertIn(node.attr, every_method | every_attribute | METHODS, where)
 
     def test_called_as_defined(self):
+        """A head is (how many by place, how many of them with defaults, whether any more, those by name)."""
         taken = {}
         for _, tree in trees().items():
             for node in ast.walk(tree):
                 if isinstance(node, ast.ClassDef):
                     made = [part for part in node.body if isinstance(part, ast.FunctionDef)
                             and part.name == "__init__"]
-                    if made:
-                        args = made[0].args
-                        taken.setdefault(node.name, set()).add((len(args.args) - 1, len(args.defaults), None))
-                    else:
-                        taken.setdefault(node.name, set()).add((0, 0, None))
+                    taken.setdefault(node.name, []).append(self.head(made[0]) if made else (0, 0, False, []))
                 elif isinstance(node, ast.FunctionDef) and not node.name.startswith("__"):
-                    args = node.args
-                    many = len(args.args) - (1 if args.args and args.args[0].arg == "self" else 0)
-                    taken.setdefault(node.name, set()).add((many, len(args.defaults), args.vararg and 1))
+                    taken.setdefault(node.name, []).append(self.head(node))
+        # What a class method calls cls is its class.
+        taken["cls"] = taken["Maker"]
         for where, node in self.each(ast.Call):
             name = node.func.id if isinstance(node.func, ast.Name) else getattr(node.func, "attr", None)
-            self.assertEqual(node.keywords, [], where)
             if name not in taken or name in METHODS:
+                self.assertEqual(node.keywords, [], where)
                 continue
             if any(isinstance(arg, ast.Starred) for arg in node.args):
                 continue
-            fit = [many - spare <= len(node.args) <= many or more and len(node.args) >= many
-                   for many, spare, more in taken[name]]
+            named = [keyword.arg for keyword in node.keywords]
+            fit = [(many - spare <= len(node.args) <= many or more and len(node.args) >= many) and set(named) <= set(names)
+                   for many, spare, more, names in taken[name]]
             self.assertTrue(any(fit), (where, name))
+
+    def head(self, node):
+        args = node.args
+        self.assertEqual((args.posonlyargs, args.kwarg), ([], None))
+        # All that is passed by name only has a default here.
+        self.assertNotIn(None, args.kw_defaults)
+        many = len(args.args) - (1 if args.args and args.args[0].arg in ("self", "cls") else 0)
+        return many, len(args.defaults), args.vararg is not None, [arg.arg for arg in args.kwonlyargs]
+
+    def test_defaults_are_plain(self):
+        for where, node in self.each(ast.FunctionDef):
+            for value in [*node.args.defaults, *node.args.kw_defaults]:
+                plain = isinstance(value, ast.Constant) or isinstance(value, ast.Tuple) and not value.elts
+                self.assertTrue(plain or isinstance(value, ast.Name) and value.id.isupper(), where)
 
     def test_iterated_at_once(self):
         for name, tree in trees().items():
@@ -339,11 +354,34 @@ class Language(unittest.TestCase):
                     self.assertNotIn(ast.unparse(part.value), over, where)
 
     def test_errors_and_catching(self):
+        own = {node.name for node in trees()["errors.py"].body if isinstance(node, ast.ClassDef)}
         for where, node in self.each(ast.Try):
-            self.fail(f"{where}: this package needs no try")
+            self.assertEqual((len(node.handlers), node.orelse, node.finalbody), (1, [], []), where)
+            self.assertIn(node.handlers[0].type.id, own, where)
+            self.assertIsNone(node.handlers[0].name, where)
         for where, node in self.each(ast.Raise):
             self.assertIsInstance(node.exc, ast.Call, where)
             self.assertIsInstance(node.exc.func, ast.Name, where)
+            self.assertIn(node.exc.func.id, own, where)
+
+    def test_with(self):
+        for where, node in self.each(ast.With):
+            self.assertEqual([ast.unparse(item) for item in node.items], ["self.attempt() as held"], where)
+        leaving = [node for _, node in self.each(ast.FunctionDef) if node.name == "__exit__"]
+        self.assertEqual(len(leaving), 2)
+        for node in leaving:
+            self.assertEqual([arg.arg for arg in node.args.args], ["self", "kind", "value", "trace"])
+            rows = ast.unparse(ast.Module(body=node.body, type_ignores=[])).split("\n")
+            for row in rows:
+                self.assertRegex(row, r"\A(held = self\.held|if kind is not None:| *held\.[a-z]+ = self\.kept)\Z")
+
+    def test_class_methods(self):
+        """A class method only calls its class, and functions."""
+        for where, node in self.each(ast.FunctionDef):
+            if "classmethod" in [ast.unparse(one) for one in node.decorator_list]:
+                uses = [part for part in ast.walk(node) if isinstance(part, ast.Name) and part.id == "cls"]
+                calls = [part.func for part in ast.walk(node) if isinstance(part, ast.Call)]
+                self.assertTrue(uses and all(use in calls for use in uses), where)
 
     def test_everything_has_a_docstring_where_others_use_it(self):
         for name, tree in trees().items():
@@ -385,11 +423,29 @@ class Interface(unittest.TestCase):
         "loops": ["counting_loops", "turns", "left_with"],
         "goals": ["goals_of", "meets"],
         "mutating": ["mutants_of", "with_mutant"],
+        "covers": ["fewest", "bar_of", "judge_bar", "greedy"],
+        "suites": ["suite_of", "tests_of", "met_by"],
+        "searches": ["searched"],
+        "comparing": ["compare", "tells_apart", "compared"],
+        "alike": ["judge_alike", "alike_paper"],
+        "kills": ["matrix_of", "implied"],
+        "edits": ["edited", "touched"],
+        "prints": ["print_of"],
+        "keepers": ["Keeper"],
+        "again": ["again", "lots_of"],
+        "joining": ["joined"],
+        "blaming": ["shown_at", "to_blame", "to_mend"],
+        "facts": ["facts_of", "holds"],
+        "promises": ["needs_of", "promises_of"],
+        "outside": ["made_external"],
+        "maker": ["Maker"],
     }
     MEMBERS = {
         "Machine": ["run", "start"],
         "Run": ["events", "go", "answer", "outcome", "report", "trial", "ahead", "twin"],
         "Sheet": ["nodes", "place", "word", "unknown", "make", "put_in"],
+        "Keeper": ["edition", "worked", "suite", "tests", "printed", "edit", "undo", "redo", "attempt", "attempted"],
+        "Maker": ["of", "text", "table", "put", "drop", "rename", "undo", "redo", "suite", "tests"],
     }
 
     def test_each_name_is_defined_in_its_file(self):
@@ -400,7 +456,7 @@ class Interface(unittest.TestCase):
 
     def test_each_method_is_defined_in_its_class(self):
         seen = set()
-        for node in [*trees()["runs.py"].body, *trees()["sheets.py"].body]:
+        for node in [node for name in ("runs", "sheets", "keepers", "maker") for node in trees()[name + ".py"].body]:
             if isinstance(node, ast.ClassDef) and node.name in self.MEMBERS:
                 made = {part.name for part in node.body if isinstance(part, ast.FunctionDef)}
                 self.assertLessEqual(set(self.MEMBERS[node.name]), made)
