@@ -55,8 +55,17 @@ class Model:
         self.worked = entries_of(program)
 
     def edition(self, program):
+        # The goals are listed when all entries are worked out.
+        late = None
         for entry in entries_of(program):
-            suite_of(program, entry, self.kind, self.bounds)
+            try:
+                suite_of(program, entry, self.kind, self.bounds)
+            except TooMany as error:
+                if error.part != "goals":
+                    raise
+                late = late or error
+        if late is not None:
+            raise late
         return program
 
     def edit(self, batch):
